@@ -1,0 +1,1 @@
+"""Floors without end, told by which walls cross."""
