@@ -1,5 +1,7 @@
 """The plans of the document's examples, and what several tests need."""
 
+from itertools import combinations, product
+
 from crosswalls.errors import InvalidKind
 from crosswalls.plans import Plan
 from crosswalls.rooms import Room
@@ -16,6 +18,17 @@ NO_STRINGS = [
 ]
 # Strings that are no kind of any plan with small letters.
 NO_KINDS = ["", "A", "1", " ", "-", "\n", "\u00e4", "\u0430", "ab", "aa", "a ", "abc"]
+
+
+def all_pairs(kinds):
+    return [one + other for one, other in combinations(kinds, 2)]
+
+
+def all_plans(kinds):
+    """Every plan of these kinds."""
+    pairs = all_pairs(kinds)
+    for chosen in product([False, True], repeat=len(pairs)):
+        yield Plan(kinds, [pair for pair, taken in zip(pairs, chosen) if taken])
 
 
 def caught(wanted, deed):

@@ -7,21 +7,10 @@ from itertools import combinations, permutations, product
 from crosswalls.errors import InvalidKind, InvalidPlan, SameKind, TooMany
 from crosswalls.plans import Plan
 from crosswalls.rooms import Room
-from tests.examples import D, L, NO_KINDS, NO_STRINGS, P, Q, caught
+from tests.examples import D, L, NO_KINDS, NO_STRINGS, P, Q, all_pairs, all_plans, caught
 
 # Values of crossing that are no pair of kinds of "abc".
 NO_PAIRS = ["", "a", "aa", "abc", "ad", "da", "dd", "AB", "a ", "a-", "ab ", "\u00e4b"]
-
-
-def all_pairs(kinds):
-    return [one + other for one, other in combinations(kinds, 2)]
-
-
-def all_plans(kinds):
-    """Every plan of these kinds."""
-    pairs = all_pairs(kinds)
-    for chosen in product([False, True], repeat=len(pairs)):
-        yield Plan(kinds, [pair for pair, taken in zip(pairs, chosen) if taken])
 
 
 class MakingTest(unittest.TestCase):

@@ -2,25 +2,13 @@
 
 import inspect
 import unittest
-from itertools import combinations, product
 from random import Random
 
 from crosswalls.errors import InvalidKind, InvalidWay, OtherPlan, TooLong
 from crosswalls.plans import Plan
 from crosswalls.rooms import Room, is_name
-from tests.examples import D, L, NO_KINDS, NO_STRINGS, P, Q, caught
+from tests.examples import D, L, NO_KINDS, NO_STRINGS, P, Q, all_pairs, all_plans, caught
 from tests.reckoning import least_words, name_by_roots, words
-
-
-def all_pairs(kinds):
-    return [one + other for one, other in combinations(kinds, 2)]
-
-
-def all_plans(kinds):
-    """Every plan of these kinds."""
-    pairs = all_pairs(kinds)
-    for chosen in product([False, True], repeat=len(pairs)):
-        yield Plan(kinds, [pair for pair, taken in zip(pairs, chosen) if taken])
 
 
 def some_plans(dice):
