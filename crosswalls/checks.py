@@ -1,6 +1,6 @@
 """What is asked of arguments in many places."""
 
-from crosswalls.errors import InvalidKind, InvalidWay, OtherPlan, TooLong
+from crosswalls.errors import InvalidKind, InvalidNumber, InvalidWay, NoRooms, OtherPlan, TooLong
 
 MOST_LETTERS = 2000
 
@@ -32,3 +32,27 @@ def check_same_plan(one, other):
     """Raise OtherPlan for two objects of unequal plans."""
     if one.plan != other.plan:
         raise OtherPlan()
+
+
+def check_rooms(rooms):
+    """Raise NoRooms for an empty list, OtherPlan for rooms of unequal plans."""
+    if len(rooms) == 0:
+        raise NoRooms()
+    for room in rooms:
+        check_same_plan(rooms[0], room)
+
+
+def is_integer(value):
+    """Whether any value is an integer; True and False are none."""
+    return isinstance(value, int) and not isinstance(value, bool)
+
+
+def is_integer_from(least, value):
+    """Whether any value is an integer that is not below the least one."""
+    return is_integer(value) and value >= least
+
+
+def check_number(least, value):
+    """Raise InvalidNumber for any value that is no integer from the least one on."""
+    if not is_integer_from(least, value):
+        raise InvalidNumber(value)

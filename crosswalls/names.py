@@ -45,3 +45,18 @@ def is_barred_after(plan, barred, kind, other):
         return True
     # A letter that can be exchanged with the last one meets what barred it before.
     return other in plan.across[kind] and (other < kind or other in barred)
+
+
+def way_between(plan, one, other):
+    """The name of the way from the room with the one name to that with the other."""
+    alike = 0
+    for own, strange in zip(one, other):
+        if own != strange:
+            break
+        alike += 1
+    return followed(plan, "", one[alike:][::-1] + other[alike:])
+
+
+def ascending(texts):
+    """Strings in the order of rooms: shorter ones first, then by the alphabet."""
+    return sorted(sorted([str(text) for text in texts]), key=len)
