@@ -1,10 +1,11 @@
 """The rooms of a lot in ascending order."""
 
 from crosswalls.checks import MOST_LETTERS, check_number, check_same_plan, is_integer_from
+from crosswalls.counts import above_for
 from crosswalls.errors import NoSuch, TooLong, TooMany
-from crosswalls.polynomials import far_coefficient, quotient, shifted, times
-from crosswalls.rooms import room_named
-from crosswalls.tallies import above_of, below_of
+from crosswalls.polynomials import far_coefficient, quotient, times
+from crosswalls.rooms import Room, room_named
+from crosswalls.tallies import below_of
 from crosswalls.tracks import lengthened, steps_of
 
 MOST_ROOMS = 2000
@@ -28,7 +29,7 @@ class Row:
             rows.append(lengthened(steps, rows[-1]))
         self._steps = steps
         self._rows = rows
-        self._above = above_from_home(lot)
+        self._above = above_for(lot, Room(lot.plan))
         self._below = below_of(lot.plan)
 
     def __iter__(self):
@@ -106,13 +107,6 @@ class Row:
             name = name + kind
             place = self._steps[place][kind]
         return room_named(self.lot.plan, name)
-
-
-def above_from_home(lot):
-    """The coefficients of M for a lot and home."""
-    if lot.start is None:
-        return []
-    return shifted(above_of(lot.plan, lot.bars), len(lot.start))
 
 
 def least_distance(above, below, number):
