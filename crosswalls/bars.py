@@ -48,11 +48,11 @@ def least_halves(plan, bars, halves):
         for at in range(len(bar) - 1):
             start = bar[:at + 1]
             if start not in clear:
-                clear[start] = clear[bar[:at]] and last_wall(plan, start) not in by_bar
+                clear[start] = clear[bar[:at]] and bar_at_end(plan, start) not in by_bar
     return {bar: by_bar[bar] for bar in by_bar if clear[bar[:-1]]}
 
 
-def last_wall(plan, way):
+def bar_at_end(plan, way):
     """The least way through the wall that the last letter of a name passes."""
     return to_door(plan, way[:-1], way[-1]) + way[-1]
 
@@ -67,7 +67,7 @@ def places_beyond(plan, bars, way):
     free = plan.kinds
     for at, kind in enumerate(way):
         # What does not cross a wall out of the lot lies beyond this wall.
-        if kind in free and last_wall(plan, within + kind) not in bars:
+        if kind in free and bar_at_end(plan, within + kind) not in bars:
             within = within + kind
         else:
             places.append(at)
@@ -77,7 +77,7 @@ def places_beyond(plan, bars, way):
 
 def passes(plan, bars, way):
     """Whether a way from the room, a name, can begin with one of the bars."""
-    return any([last_wall(plan, way[:at + 1]) in bars for at in range(len(way))])
+    return any([bar_at_end(plan, way[:at + 1]) in bars for at in range(len(way))])
 
 
 def without(way, places):

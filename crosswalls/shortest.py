@@ -1,6 +1,6 @@
 """The shortest ways from one room to another, in the order of the alphabet."""
 
-from crosswalls.bars import bar_to, last_wall, passes
+from crosswalls.bars import bar_at_end, bar_to, passes
 from crosswalls.checks import check_same_plan, is_integer_from
 from crosswalls.errors import NoSuch, NotBetween, NotShortest
 from crosswalls.hulls import gathered, leads_to_one
@@ -25,7 +25,7 @@ class Shortest:
         self._doors = gathered(one.plan, "", [way], MOST_ROOMS, leads_to_one)
         self._before = ways_before(one.plan, self._doors)
         self._after = ways_after(one.plan, self._doors)
-        self._bars = {last_wall(one.plan, way[:at + 1]): True for at in range(len(way))}
+        self._bars = {bar_at_end(one.plan, way[:at + 1]): True for at in range(len(way))}
 
     def __iter__(self):
         raise TypeError("ways are not iterated over")
