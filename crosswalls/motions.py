@@ -6,6 +6,7 @@ from crosswalls.courses import Course
 from crosswalls.errors import Moves, Stands, TooLong
 from crosswalls.lots import Half, Lot
 from crosswalls.names import followed, leads_nearer
+from crosswalls.paintings import Painting
 from crosswalls.renames import chosen_renaming, renamed, round_of, turned_back
 from crosswalls.rooms import Room, room_named
 from crosswalls.settling import settled
@@ -33,6 +34,8 @@ class Motion:
             return half_led(self, thing)
         if isinstance(thing, Lot):
             return lot_led(self, thing)
+        if isinstance(thing, Painting):
+            return thing.led_by(self)
         return block_led(self, thing)
 
     def __mul__(self, other):
