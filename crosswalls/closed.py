@@ -31,13 +31,13 @@ class Closed:
     def at(self, room):
         """The place over which a room lies."""
         check_same_plan(self, room)
-        return place_behind(self, 0, room.name)
+        return place_at_end(self, 0, room.name)
 
     def follow(self, place, way):
         """The place to which a way leads from a place."""
         check_place(self, place)
         check_way(self.plan, way)
-        return place_behind(self, place, way)
+        return place_at_end(self, place, way)
 
     def based(self, place):
         """The closed floor with the same doors, and this place as the first one."""
@@ -124,7 +124,7 @@ def check_place(closed, value):
         raise NoPlace(value)
 
 
-def place_behind(closed, place, way):
+def place_at_end(closed, place, way):
     """The place to which a way leads from a place."""
     for kind in way:
         place = closed.tables[closed.plan.kinds.index(kind)][place]

@@ -10,8 +10,8 @@ from crosswalls.turns import image_by
 class Course:
     """The distances between a room start and the images of a room goal.
 
-    row has them for the powers from the number first on. Beyond both ends of the
-    row the distance grows by `growth` with each `cycle` of powers.
+    table has them for the powers from the number first on. Beyond both its ends
+    the distance grows by `growth` with each `cycle` of powers.
     """
 
     def __init__(self, turn, start, goal):
@@ -23,12 +23,12 @@ class Course:
         many = turn.many * (steady_from(turn, start, goal, turn.stride) + 3)
         many_back = turn.many * (steady_from(turn, start, goal, turn.stride[::-1]) + 3)
         row_back = distances(plan, home_back, back, start, goal, many_back)
-        self.row = row_back[:0:-1] + distances(plan, turn.home, turn.renaming, start, goal, many)
+        self.table = row_back[:0:-1] + distances(plan, turn.home, turn.renaming, start, goal, many)
         self.first = 1 - many_back
 
     def last(self):
-        """The number of the last power in the row."""
-        return self.first + len(self.row) - 1
+        """The number of the last power in the table."""
+        return self.first + len(self.table) - 1
 
     def at(self, number):
         """The distance for any power."""
@@ -40,7 +40,7 @@ class Course:
         elif number < self.first:
             laps = (self.first - number + self.cycle - 1) // self.cycle
             number = number + laps * self.cycle
-        return self.row[number - self.first] + laps * self.growth
+        return self.table[number - self.first] + laps * self.growth
 
 
 def steady_from(turn, start, goal, stride):

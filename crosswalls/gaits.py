@@ -60,7 +60,7 @@ class Gait:
 
     def least(self):
         """The least distance, and the power nearest to 0 that has it."""
-        row = self._course.row
+        row = self._course.table
         value = min([int(distance) for distance in row])
         numbers = [self._course.first + at for at, distance in enumerate(row) if distance == value]
         near = min([abs(number) for number in numbers])
@@ -213,7 +213,7 @@ def when(motion, room, lot):
 def times_in_half(turn, name, half):
     """The When of all powers that lead the room with this name into a half."""
     sides = Sides(turn, half.wall, name)
-    told = told_by(sides.lowest(), [beyond == half.far for beyond in sides.flags()], 2 * turn.many)
+    told = told_by(sides.lowest(), [beyond == half.far for beyond in sides.beyond_flags()], 2 * turn.many)
     return When(*told)
 
 
@@ -236,11 +236,11 @@ def times_among(turn, name, start, rooms):
 
 def times_within(course, distance):
     """The When of all powers for which the distance is not greater than this one."""
-    told = told_by(course.first, [near <= distance for near in course.row], course.cycle)
+    told = told_by(course.first, [near <= distance for near in course.table], course.cycle)
     found = When(*told)
     if course.growth == 0:
         return found
-    # Beyond the row the distances grow, so that those of each rest are within up to some power.
+    # Beyond the table the distances grow, so that those of each rest are within up to some power.
     found = found & When(1, [course.first, course.last() + 1], [0, 1, 0])
     for at in range(course.cycle):
         for number, step in ((course.last() - at, course.cycle), (course.first + at, -course.cycle)):

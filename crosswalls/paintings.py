@@ -17,10 +17,11 @@ from crosswalls.trails import times_told
 from crosswalls.turns import turn_of
 from crosswalls.views import graph_around, led_form, seen_behind, seen_form, through_form
 
-BOTH = {("yes", "yes"): "yes", ("yes", "no"): "no", ("no", "yes"): "no", ("no", "no"): "no"}
-EITHER = {("yes", "yes"): "yes", ("yes", "no"): "yes", ("no", "yes"): "yes", ("no", "no"): "no"}
-FIRST_ALONE = {("yes", "yes"): "no", ("yes", "no"): "yes", ("no", "yes"): "no", ("no", "no"): "no"}
-ONE_ALONE = {("yes", "yes"): "no", ("yes", "no"): "yes", ("no", "yes"): "yes", ("no", "no"): "no"}
+# For which pairs of colours, in two regions, a room is in the region that comes of both.
+BOTH = (("yes", "yes"),)
+EITHER = (("yes", "yes"), ("yes", "no"), ("no", "yes"))
+FIRST_ALONE = (("yes", "no"),)
+ONE_ALONE = (("yes", "no"), ("no", "yes"))
 
 
 class Painting:
@@ -265,9 +266,11 @@ def check_regions(one, other):
     check_region(other)
 
 
-def region_of_both(one, other, told):
-    """The region of the rooms of which a dict tells that they are in it, by whether they are in two others."""
+def region_of_both(one, other, kept):
+    """The region of the rooms that have, in two others, one of the pairs of colours that are kept."""
     check_regions(one, other)
+    pairs = [(own, strange) for own in ("yes", "no") for strange in ("yes", "no")]
+    told = {pair: "yes" if pair in kept else "no" for pair in pairs}
     return painting_of(one.plan, form_of_both(one.form, other.form, told))
 
 

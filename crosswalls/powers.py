@@ -21,7 +21,7 @@ class Along:
         turn = turn_of(motion)
         self.motion = motion
         self.room = room_named(plan, turn.room)
-        self.kinds = "".join([kind for kind in plan.kinds if is_beside(plan, turn, kind)])
+        self.kinds = "".join([kind for kind in plan.kinds if is_along(plan, turn, kind)])
         self.strides = tuple([root_of(plan, part)[0] for part in parts_of(plan, turn.stride)])
 
     def __contains__(self, x):
@@ -56,7 +56,7 @@ def is_exchanged(motion, value):
     return name == followed(motion.plan, value.home.name, motion.home.name)
 
 
-def is_beside(plan, turn, kind):
+def is_along(plan, turn, kind):
     """Whether the shift by this kind can be exchanged with those by the turn's single letters and by its stride."""
     return all_cross(plan, kind, turn.stride) and all_cross(plan, kind, turn.still.replace(kind, ""))
 
