@@ -38,22 +38,9 @@ def nearer_behind(plan, nearer, kind):
 def graph_of_tables(plan, tables):
     """The states of the nodes, the kinds that lead nearer home, and the nodes behind, for states told by tables."""
     rows = nearer_rows(plan)
-    nodes = [(0, 0)]
-    numbers = {(0, 0): 0}
-    after = []
-    while len(after) < len(nodes):
-        state, row = nodes[len(after)]
-        ends = []
-        for table, next_row in zip(tables, rows[row][1]):
-            if next_row is None:
-                ends.append(None)
-            else:
-                node = (table[state], next_row)
-                if node not in numbers:
-                    numbers[node] = len(nodes)
-                    nodes.append(node)
-                ends.append(numbers[node])
-        after.append(tuple(ends))
+    many = len(tables[0]) if len(tables) > 0 else 1
+    ends = [tuple([table[state] for table in tables]) for state in range(many)]
+    nodes, after = graph_of_pairs(ends, [row[1] for row in rows])
     return [state for state, _ in nodes], [rows[row][0] for _, row in nodes], after
 
 
@@ -82,22 +69,30 @@ def graph_of_steps(plan, start, behind_state):
 
 def graph_of_both(one, other):
     """The pairs of rows, one of each form of one plan, that rooms have, and the nodes behind."""
+    return graph_of_pairs([row[2] for row in one], [row[2] for row in other])
+
+
+def graph_of_pairs(ends, other_ends):
+    """The pairs of two sorts of places, (0, 0) first, to which doors lead, and for each the nodes behind its doors.
+
+    For each place its ends are the places behind its doors. Doors that have None
+    as their other end are not gone through.
+    """
     nodes = [(0, 0)]
     numbers = {(0, 0): 0}
     after = []
     while len(after) < len(nodes):
         own, strange = nodes[len(after)]
-        ends = []
-        for next_own, next_strange in zip(one[own][2], other[strange][2]):
-            if next_own is None:
-                ends.append(None)
+        found = []
+        for node in zip(ends[own], other_ends[strange]):
+            if node[1] is None:
+                found.append(None)
             else:
-                node = (next_own, next_strange)
                 if node not in numbers:
                     numbers[node] = len(nodes)
                     nodes.append(node)
-                ends.append(numbers[node])
-        after.append(tuple(ends))
+                found.append(numbers[node])
+        after.append(tuple(found))
     return nodes, after
 
 

@@ -63,7 +63,7 @@ class Gait:
         row = self._course.table
         value = min([int(distance) for distance in row])
         numbers = [self._course.first + at for at, distance in enumerate(row) if distance == value]
-        near = min([abs(number) for number in numbers])
+        near = min([int(abs(number)) for number in numbers])
         return value, near if near in numbers else -near
 
     def within(self, distance):

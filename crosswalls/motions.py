@@ -1,7 +1,7 @@
 """Motions of the floor."""
 
 from crosswalls.blocks import Block
-from crosswalls.checks import MOST_LETTERS, check_same_plan, check_way
+from crosswalls.checks import MOST_LETTERS, check_same_plan
 from crosswalls.courses import Course
 from crosswalls.errors import Moves, Stands, TooLong
 from crosswalls.lots import Half, Lot
@@ -19,7 +19,6 @@ class Motion:
     """The motion that leads home to the end of a way, and from there on goes by the renamed letters."""
 
     def __init__(self, plan, way="", renaming=None):
-        check_way(plan, way)
         self.plan = plan
         self.home = Room(plan, way)
         self.renaming = chosen_renaming(plan, renaming)

@@ -75,7 +75,6 @@ class Painting:
     @staticmethod
     def plain(plan, colour):
         """The painting of one colour."""
-        check_colour(colour)
         return Painting(plan, [[0] for _ in plan.kinds], [colour])
 
     @staticmethod
@@ -296,16 +295,14 @@ def views_of(painting):
     most = len(painting.form) << len(wide)
     forms = [painting.form]
     numbers = {painting.form: 0}
-    tables = [[] for _ in plan.kinds]
-    at = 0
-    while at < len(forms):
-        for kind, table in zip(plan.kinds, tables):
-            form = seen_behind(plan, forms[at], kind)
+    ends = []
+    while len(ends) < len(forms):
+        around = [seen_behind(plan, forms[len(ends)], kind) for kind in plan.kinds]
+        for form in around:
             if form not in numbers:
                 numbers[form] = len(forms)
                 forms.append(form)
-            table.append(numbers[form])
         if len(forms) > most:
             return None
-        at += 1
-    return forms, tables
+        ends.append([numbers[form] for form in around])
+    return forms, [[row[at] for row in ends] for at in range(len(plan.kinds))]

@@ -159,7 +159,8 @@ def same_powers(first, second):
     one = turn_of(first)
     other = turn_of(second)
     many = gcd(len(one.stride), len(other.stride))
-    for laps in range(1, 2 * many + 1):
+    # Where strides are alike in some powers, they are so in the first ones; single letters are in the second ones.
+    for laps in (1, 2):
         number = laps * (len(other.stride) // many)
         strange = laps * (len(one.stride) // many)
         for wanted in (strange, -strange):

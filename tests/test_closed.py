@@ -336,6 +336,11 @@ class FoldedTest(unittest.TestCase):
         caught(NoRooms, lambda: Closed.folded(rooms=()))
         caught(OtherPlan, lambda: Closed.folded([Room(P), Room(P, "abc"), Room(D)]))
 
+    def test_one_room(self):
+        for room in (Room(P), Room(P, "cab")):
+            self.assertEqual(Closed.folded([room]), Closed(P, [[0], [0], [0]]))
+            self.assertEqual(Closed.folded([room, room]), Closed(P, [[0], [0], [0]]))
+
     def test_many_rooms(self):
         rooms = [Room(Q, "ac" * 100 + "ac" * at + step) for at in range(10) for step in ("", "a", "b", "ab")]
         closed = Closed.folded(rooms)

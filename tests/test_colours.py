@@ -16,7 +16,7 @@ from crosswalls.walls import Wall
 from tests.examples import D, L, NO_KINDS, NO_STRINGS, P, Q, caught
 from tests.going import Going
 from tests.painted import COLOURS, some_painting, some_region
-from tests.tables import every_floor
+from tests.tables import both_tables, every_floor
 from tests.test_paintings import CHESS, NO_COLOUR_VALUES
 
 RING = Plan.ring("abcde")
@@ -177,6 +177,40 @@ class WhenTest(unittest.TestCase):
                 room = near.room(dice.choice(near.names))
                 self.assertEqual(Painting.of_half(half).when(going.motion(m), room, "yes"), when(going.motion(m), room, half))
                 self.assertEqual(Painting.of_lot(lot).when(going.motion(m), room, "yes"), when(going.motion(m), room, lot))
+
+    def test_tables_of_many_states(self):
+        dice = Random(9)
+        line, free = Plan("ab"), Plan("abc")
+        for at in range(120):
+            tables = [[dice.randrange(7) for _ in range(7)] for _ in range(3)]
+            if at % 3 == 0:
+                plan, tables = free, tables
+            elif at % 3 == 1:
+                plan, tables = line, tables[:2]
+            else:
+                second = [dice.randrange(2) for _ in range(2)]
+                plan, tables = D, both_tables(tables[:2], [[0, 1], [0, 1]]) + both_tables([list(range(7))], [second])
+            painting = Painting(plan, tables, [dice.choice(COLOURS) for _ in tables[0]])
+            way = "".join(dice.choice(plan.kinds) for _ in range(dice.randrange(9)))
+            motion = Motion(plan, way, dice.choice(plan.renamings()))
+            # Rooms that the motion leads past home for a while, and others.
+            room = motion.power(dice.randrange(-6, 7))(Room(plan, way[:dice.randrange(4)]))
+            room = room if len(room) <= 24 else Room(plan, room.name[:24])
+            found = painting.when(motion, room, "red")
+            for number in range(-40, 41):
+                self.assertIs(number in found, painting[motion.power(number)(room)] == "red")
+
+    def test_rows_that_come_again_later(self):
+        dice = Random(10)
+        for _ in range(300):
+            many = dice.randrange(3, 20)
+            states = list(range(1, many)) + [dice.randrange(many)]
+            painting = Painting(L, [states, states], [dice.choice(COLOURS) for _ in states])
+            motion = Motion(L, "ab" * dice.randrange(1, 3), "ab") if dice.random() < 0.7 else Motion(L, "aba", "ba")
+            room = Room(L, "ba" * dice.randrange(4))
+            images = {number: painting[motion.power(number)(room)] for number in range(-60, 61)}
+            found = painting.when(motion, room, "red")
+            self.assertEqual([number for number in images if number in found], [number for number in images if images[number] == "red"])
 
     def test_long_periods(self):
         states = list(range(1, 24)) + [0]

@@ -117,7 +117,8 @@ class MakingTest(unittest.TestCase):
         for value in NO_COLOUR_VALUES:
             for colours in (["red", value, 7], (value, "X", "y")):
                 self.assertIs(caught(InvalidColour, lambda: Painting(L, [[0, 0, 0], [0, 0, 0]], colours)).value, value)
-        self.assertEqual(Painting(L, [[0], [0]], ["abcdefghijkl"]).form[0][0], "abcdefghijkl")
+        for colour in ("abcdefghijkl", "mnopqrstuvwx", "yz", "a", "z"):
+            self.assertEqual(Painting(L, [[0], [0]], [colour]).form[0][0], colour)
 
     def test_not_exchanged_against_all_states(self):
         dice = Random(3)

@@ -128,6 +128,13 @@ class RootsTest(unittest.TestCase):
         self.assertEqual(roots(Motion(plan), 10 ** 30)[1], None)
         self.assertEqual(roots(Motion(Plan("ab", ["ab"])), 2)[1], 4)
 
+    def test_roots_beside_single_letters(self):
+        # With c beside, only odd powers can be taken.
+        for many, odd in ((1, 1), (2, 1), (3, 3), (6, 3), (8, 1), (11, 11)):
+            for start in ("", "c", "a"):
+                shift, wanted = [Motion(D, start + "ab" * exponent + "c" + start[::-1]) for exponent in (many, many // odd)]
+                self.assertEqual(root(shift), (wanted, odd))
+
     def test_greatest_root(self):
         dice = Random(4)
         greatest = set()
@@ -181,6 +188,9 @@ class ErrorsTest(unittest.TestCase):
 
     def test_renamed(self):
         turned, shift = Motion(L, "a", "ba"), Motion(L, "ab")
+        standing = Motion(L, "", "ba")
+        for deed in (lambda: root(standing), lambda: same_powers(standing, shift), lambda: same_powers(Motion(L), standing)):
+            self.assertIs(caught(Renamed, deed).motion, standing)
         for deed in (lambda: along(turned), lambda: roots(turned, 0), lambda: root(turned), lambda: same_powers(turned, shift),
                      lambda: same_powers(shift, turned), lambda: same_powers(turned, Motion(P, "a", "cba")),
                      lambda: same_powers(Motion(L), turned)):

@@ -205,6 +205,18 @@ class ClosedTest(unittest.TestCase):
         for value in NO_COLOUR_VALUES:
             self.assertIs(caught(InvalidColour, lambda: Painting.spot(Room(L)).share(value)).value, value)
 
+    def test_more_places_than_rows(self):
+        # A pattern along the rooms that neither c nor d parts from home; beyond them all is red.
+        plan = Plan("ab") * Plan("cd", ["cd"])
+        places = [(at, bits) for at in range(8) for bits in range(4)]
+        behind = {"a": lambda at, bits: (at ^ 1, bits), "b": lambda at, bits: ((at + 1 ^ 1) - 1 & 7, bits),
+                  "c": lambda at, bits: (at, bits ^ 1), "d": lambda at, bits: (at, bits ^ 2)}
+        tables = [[places.index(behind[kind](*place)) for place in places] for kind in "abcd"]
+        painting = Painting.of_closed(Closed(plan, tables), found_colours(plan, tables, ["abcdefgh"[at] if bits == 0 else "red" for at, bits in places]))
+        self.assertLess(len(painting), 32)
+        self.assertEqual(len(painting.closed()[0]), 32)
+        self.assertEqual(painting.share("red"), (24, 32))
+
     def test_a_half_that_is_closed_along_a_line(self):
         # In D the wall of c has a room on its other side behind each room: two places.
         closed, colours = Painting.of_half(Half(Wall(Room(D), "c"))).closed()
