@@ -81,8 +81,10 @@ def first_break(base, patch, bars):
     wanted = [has_barred_door(plan, base.form, bars, row) for row in base.form]
     # The doors of all other rooms lead to no room of the patch.
     single = rooms_around(plan, patch)
-    names = [name for name in names_with(plan, base.form, wanted, len(single) + 1) if name not in single]
-    return first_break_at(base, patch, bars, list(single) + names[:1])
+    names = names_with(plan, base.form, wanted, len(single) + 1)
+    inner = [name for name in names if name in single]
+    outer = [name for name in names if name not in single]
+    return first_break_at(base, patch, bars, list(patch) + inner + outer[:1])
 
 
 def has_barred_door(plan, form, bars, row):
