@@ -65,10 +65,12 @@ def unwound(plan, way):
     room = ""
     kind = loose_kind(plan, way)
     while kind:
+        # The least kind is taken first, so these letters are a name.
         room = room + kind
-        way = followed(plan, kind, way + kind)
+        rest = without_first(plan, way, kind)
+        way = without_first(plan, rest[::-1], kind)[::-1]
         kind = loose_kind(plan, way)
-    return room, way
+    return room, followed(plan, "", way)
 
 
 def loose_kind(plan, way):

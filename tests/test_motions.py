@@ -242,6 +242,14 @@ class ProductsTest(unittest.TestCase):
         if step * 10 < 1900:
             self.assertEqual(lengths[0], len(motion.power(120).home) + step * 190)
 
+    def test_powers_of_long_homes(self):
+        m = Motion(L, "ab").power(1000)
+        self.assertEqual((m.power(-1), m.power(1), m.speed), (Motion(L, "ba" * 1000), m, 2000))
+        self.assertEqual(caught(TooLong, lambda: m.power(2)).length, 4000)
+        wound = Motion(Plan("abc"), "abc" * 300 + "ab" + "cba" * 300)
+        self.assertEqual((wound.power(5).home.name, wound.speed), ("abc" * 300 + "ab" * 5 + "cba" * 300, 2))
+        self.assertEqual(caught(TooLong, lambda: wound.power(-10 ** 9)).length, 1800 + 2 * 10 ** 9)
+
     def test_at_the_limit(self):
         m = Motion(L, "ab")
         self.assertEqual(len(m.power(1000).home), 2000)
