@@ -8,7 +8,7 @@ from crosswalls.errors import BadTables, InvalidRenaming, InvalidTable, InvalidW
 from crosswalls.plans import Plan
 from crosswalls.rooms import Room
 from tests.examples import D, L, NO_STRINGS, P, Q, caught
-from tests.tables import all_mirrors, every_floor, exchanged, lists, some_tables, state_after
+from tests.tables import all_mirrors, every_floor, lists, some_tables, state_after
 from tests.test_motions import NO_RENAMINGS
 
 TRIPLE = Plan("abc", ["ab", "bc", "ac"])

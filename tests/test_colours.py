@@ -13,9 +13,9 @@ from crosswalls.plans import Plan
 from crosswalls.ranks import Row
 from crosswalls.rooms import Room
 from crosswalls.walls import Wall
-from tests.examples import D, L, NO_KINDS, NO_STRINGS, P, Q, caught
+from tests.examples import D, L, NO_KINDS, NO_STRINGS, P, caught
 from tests.going import Going
-from tests.painted import COLOURS, some_painting, some_region
+from tests.painted import COLOURS, some_painting
 from tests.tables import both_tables, every_floor
 from tests.test_paintings import CHESS, NO_COLOUR_VALUES
 

@@ -7,7 +7,6 @@ from crosswalls.cores import core, least_step, led, to_core
 from crosswalls.errors import InvalidRenaming, OtherPlan
 from crosswalls.motions import Motion
 from crosswalls.plans import Plan
-from crosswalls.rooms import Room
 from tests.examples import D, L, NO_STRINGS, P, Q, caught
 from tests.going import goings
 from tests.test_motions import NO_RENAMINGS, told

@@ -3,14 +3,11 @@
 import unittest
 from random import Random
 
-from crosswalls.errors import Broken, InvalidColour, InvalidKind, NoRegion, NotBarred, NothingToUndo, OtherPlan, TooLong
-from crosswalls.lots import Half
+from crosswalls.errors import Broken, InvalidColour, InvalidKind, NoRegion, NotBarred, NothingToUndo, OtherPlan
 from crosswalls.maps import Map
 from crosswalls.motions import Motion
 from crosswalls.paintings import Painting
-from crosswalls.plans import Plan
 from crosswalls.rooms import Room
-from crosswalls.walls import Wall
 from tests.examples import L, NO_KINDS, NO_STRINGS, P, Q, caught
 from tests.going import Going
 from tests.painted import COLOURS, first_of, some_painting, some_region
@@ -188,7 +185,7 @@ class DeedsTest(unittest.TestCase):
         held = Map(Painting.plain(L, "red"))
         held[Room(L, "ab" * 30)] = "blue"
         for _ in range(17):
-            held.move(Motion(L, "abababab"[:8] + "ab"))
+            held.move(Motion(L, "ababababab"))
         self.assertEqual(patch_of(held), [("ab" * (30 + 85), "blue")])
         self.assertEqual(held[Room(L, "ab" * 115)], "blue")
 

@@ -10,9 +10,9 @@ from crosswalls.lots import Half, Lot
 from crosswalls.motions import Motion
 from crosswalls.plans import Plan
 from crosswalls.rooms import Room
-from crosswalls.walls import Wall, walls_between
+from crosswalls.walls import Wall
 from tests.examples import D, L, NO_STRINGS, P, Q, caught
-from tests.floors import floor, ring, small_floors
+from tests.floors import small_floors
 from tests.going import Going, goings
 from tests.lists import some_lots
 

@@ -10,9 +10,7 @@ from crosswalls.gaits import Gait, When, brings, fate, when
 from crosswalls.lots import Half, Lot
 from crosswalls.maps import Map
 from crosswalls.middles import centres, gate, hull, in_hull, least_total, middle
-from crosswalls.motions import Motion
 from crosswalls.paintings import Painting
-from crosswalls.plans import Plan
 from crosswalls.ranks import Row
 from crosswalls.rooms import Room
 from crosswalls.shortest import Shortest
