@@ -169,11 +169,15 @@ class PlacesTest(unittest.TestCase):
             for renaming in near.plan.renamings()[:8]:
                 closed, _ = some_closed(dice, near.plan)
                 other = closed.renamed(renaming=renaming)
-                for name in near.names[::5]:
-                    image = "".join(renaming[near.plan.kinds.index(kind)] for kind in name)
-                    ends = [other.at(Room(near.plan, image + more)) for more in ("", "".join(renaming))]
-                    self.assertEqual(len(set(ends)) == 1, len({closed.at(Room(near.plan, name + more)) for more in ("", near.plan.kinds)}) == 1)
-                    self.assertEqual(other.at(Room(near.plan, image)) == 0, closed.at(Room(near.plan, name)) == 0)
+                images = ["".join(renaming[near.plan.kinds.index(kind)] for kind in name) for name in near.names]
+                places = [closed.at(near.room(name)) for name in near.names]
+                its_places = [other.at(Room(near.plan, image)) for image in images]
+                # Rooms lie over one place exactly if their images do, and home over the first one.
+                self.assertEqual(len(set(zip(places, its_places))), len(set(places)))
+                self.assertEqual(len(set(zip(places, its_places))), len(set(its_places)))
+                self.assertEqual((other.at(Room(near.plan)), len(other), other.plan), (0, len(closed), near.plan))
+                back = "".join(near.plan.kinds[renaming.index(kind)] for kind in near.plan.kinds)
+                self.assertEqual(other.renamed(back), closed)
 
 
 def swapped(place, first):
