@@ -2,10 +2,10 @@
 
 from crosswalls.checks import check_same_plan
 from crosswalls.errors import Broken, NotBarred, NothingToUndo
-from crosswalls.names import ascending, followed
+from crosswalls.names import ascending, behind, followed
 from crosswalls.paintings import check_triple
 from crosswalls.patches import (
-    Barring, around_of, colour_at, cut_patch, first_break, first_break_at, first_difference, rooms_around,
+    Barring, colour_at, colours_by_name, cut_patch, first_break, first_break_at, first_difference, rooms_around,
 )
 from crosswalls.regions import check_colour
 from crosswalls.renames import renamed
@@ -75,11 +75,13 @@ class Map:
     def step(self, rule):
         """Give each room the colour that a rule tells by its own one and those around."""
         base = self.base.step(rule)
+        near = rooms_around(self.plan, self._patch)
+        colours = colours_by_name(self.base, self._patch, rooms_around(self.plan, near))
         patch = {}
-        for name in rooms_around(self.plan, self._patch):
-            colour = rule(colour_at(self.base, self._patch, name), around_of(self.base, self._patch, name))
-            check_colour(colour)
-            patch[name] = colour
+        for name in near:
+            around = tuple([colours[behind(self.plan, name, kind)] for kind in self.plan.kinds])
+            patch[name] = rule(colours[name], around)
+            check_colour(patch[name])
         self._change(base, cut_patch(base, patch))
 
     def copied(self):

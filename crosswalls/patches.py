@@ -10,20 +10,35 @@ def colour_at(base, patch, name):
     return patch[name] if name in patch else base.form[row_behind(base.plan, base.form, 0, name)][0]
 
 
+def colours_by_name(base, patch, names):
+    """The colours of the rooms with these names, in a dict.
+
+    Rooms near one another have names that begin alike, so the rows of all
+    beginnings of names are kept.
+    """
+    plan = base.plan
+    rows = {"": 0}
+    found = {}
+    for name in names:
+        many = len(name)
+        while name[:many] not in rows:
+            many -= 1
+        for at in range(many, len(name)):
+            rows[name[:at + 1]] = base.form[rows[name[:at]]][2][plan.kinds.index(name[at])]
+        found[name] = patch[name] if name in patch else base.form[rows[name]][0]
+    return found
+
+
 def cut_patch(base, patch):
     """The patch without the rooms that have the colour of the base."""
-    return {name: patch[name] for name in patch if patch[name] != colour_at(base, {}, name)}
+    colours = colours_by_name(base, {}, patch)
+    return {name: patch[name] for name in patch if patch[name] != colours[name]}
 
 
-def around_of(base, patch, name):
-    """The colours of the rooms behind all doors of a room."""
-    return tuple([colour_at(base, patch, behind(base.plan, name, kind)) for kind in base.plan.kinds])
-
-
-def rooms_around(plan, patch):
-    """The names of the rooms of a patch and of those behind their doors, as keys of a dict."""
-    found = {name: True for name in patch}
-    for name in patch:
+def rooms_around(plan, names):
+    """The names of some rooms and of those behind their doors, as keys of a dict."""
+    found = {name: True for name in names}
+    for name in names:
         for kind in plan.kinds:
             found[behind(plan, name, kind)] = True
     return found
@@ -63,12 +78,12 @@ class Barring:
 def first_break_at(base, patch, bars, names):
     """The first barred door of some rooms, as (name of its room nearer home, kind), or None."""
     plan = base.plan
+    colours = colours_by_name(base, patch, rooms_around(plan, names))
     found = {}
     for name in names:
-        colour = colour_at(base, patch, name)
         for kind in plan.kinds:
             other = behind(plan, name, kind)
-            if bars.stop(colour, kind, colour_at(base, patch, other)):
+            if bars.stop(colours[name], kind, colours[other]):
                 near = name if len(name) < len(other) else other
                 found[near + kind] = (near, kind)
     # All of these are shortest ways, in the order of the rooms and then of the kinds.
